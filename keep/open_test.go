@@ -94,7 +94,7 @@ func TestOpenOfWrongRecords(t *testing.T) {
 	}
 }
 
-// P5.1: of all short records those in the form are taken, for what they say, and no others.
+// P5.1: of the records of up to five bytes, each 0 to 3 or 255, those in the form are taken, for what they say, and no others.
 func TestOpenOfShortRecords(t *testing.T) {
 	for _, b := range short() {
 		want, e := told(b)
